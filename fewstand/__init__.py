@@ -1,0 +1,1 @@
+"""Fewstand: few lots that stand for all."""
