@@ -45,6 +45,8 @@ class Choices(unittest.TestCase):
     def test_somewhat_beyond_the_bounds(self):
         self.assertEqual(len(choices(14, 3)), 364)
         self.assertEqual(choices(15, 15), [tuple(range(15))])
+        self.assertEqual(choices(3, -1), [])
+        self.assertEqual(how_many(3, -1), 0)
 
 
 class HowMany(unittest.TestCase):
