@@ -11,6 +11,11 @@ def is_whole(thing):
     return isinstance(thing, int) and not isinstance(thing, bool)
 
 
+def is_within(thing, least, most):
+    """Whether thing is a whole number from least to most."""
+    return is_whole(thing) and thing >= least and thing <= most
+
+
 def is_prime(thing):
     """Whether thing is a prime below 10000."""
     if not is_whole(thing) or thing < 2 or thing >= PRIMES_END:

@@ -27,6 +27,23 @@ def shares(prime, rows, row):
     return [(-number) % prime for number in left[width:]]
 
 
+def leanings(prime, rows):
+    """Of each row None where it is free, else the shares of the free ones ahead of it."""
+    kept = []
+    told = []
+    for row in rows:
+        # Free rows are at most as many as places: so many marks will do.
+        width = len(row)
+        count = len(kept)
+        left = cleared(prime, kept, row + [0] * width)
+        if first_filled(left, width) is None:
+            told.append([(-number) % prime for number in left[width:width + count]])
+        else:
+            keep(prime, kept, row + marks(width, count), width)
+            told.append(None)
+    return told
+
+
 def marks(count, at):
     """So many noughts, but 1 at that place."""
     return [1 if place == at else 0 for place in range(count)]

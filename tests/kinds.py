@@ -1,6 +1,117 @@
-"""Things of every kind that are no whole numbers, for the tests."""
+"""Things of every kind, and what several tests reckon for themselves."""
+
+import itertools
 
 
 def no_whole_numbers():
     return [True, False, None, "", "1", "abc", b"", b"\x02", [], [2], (), (2,), {}, {2: 2},
             {2}, frozenset([2]), 2.0, 2.5, object(), int, len, range(3)]
+
+
+def things_of_other_kinds():
+    """No lists, and no tuples of two or more."""
+    return [True, False, None, 0, 1, -1, 7, "", "ab", b"", b"ab", (), (None,), {}, {0: 0}, set(), {1}, frozenset(),
+            1.5, object(), list, len, range(2)]
+
+
+def wrong_sizes():
+    """Grounds, sizes and strangers, at least one of which is none."""
+    told = [(many, 2, 2) for many in no_whole_numbers() + [0, -1, 31, 32, 10 ** 40]]
+    told += [(6, size, 2) for size in no_whole_numbers() + [-1, 7, 9, -(10 ** 40), 10 ** 40]]
+    told += [(6, 2, strangers) for strangers in no_whole_numbers() + [-1, 7, 9, -(10 ** 40), 10 ** 40]]
+    told += [(6, 9, 0), (6, 0, 9), (6, 9, -1), (6, -1, 9), (6, 8, 1), (6, 1, 8), (6, 5, 4), (6, 4, 5), (6, 10, -2)]
+    return told + [(0, 0, 0), (31, 0, 0), (0, 9, 9), (None, None, None)]
+
+
+def determinant(rows):
+    """By the first row, over whole numbers."""
+    if not rows:
+        return 1
+    return sum((-1) ** place * number * determinant([row[:place] + row[place + 1:] for row in rows[1:]])
+               for place, number in enumerate(rows[0]) if number)
+
+
+def least_prime(number):
+    while number < 2 or any(number % divisor == 0 for divisor in range(2, number)):
+        number += 1
+    return number
+
+
+def row_by_hand(many, size, strangers, lot):
+    width = size + strangers
+    return [determinant([[thing ** place for place in places] for thing in lot]) % least_prime(many + strangers)
+            for places in itertools.combinations(range(width), size)]
+
+
+def rank(prime, rows):
+    """How many of the rows are free, by putting all into steps, with powers for contraries."""
+    rows = [[number % prime for number in row] for row in rows]
+    found = 0
+    for place in range(len(rows[0]) if rows else 0):
+        at = next((at for at in range(found, len(rows)) if rows[at][place]), None)
+        if at is None:
+            continue
+        rows[found], rows[at] = rows[at], rows[found]
+        factor = pow(rows[found][place], prime - 2, prime)
+        for below in range(found + 1, len(rows)):
+            times = rows[below][place] * factor
+            rows[below] = [(a - times * b) % prime for a, b in zip(rows[below], rows[found])]
+        found += 1
+    return found
+
+
+def best_of(family, strangers):
+    return max((worth for lot, worth in family if not set(lot) & set(strangers)), default=None)
+
+
+def stands_by_hand(many, strangers, family, few):
+    return all(best_of(few, some) == best_of(family, some)
+               for count in range(strangers + 1) for some in itertools.combinations(range(many), count))
+
+
+def some_family(chance, many, size, most, worths):
+    """A family of at most so many lots, in any order, worths from -worths to worths."""
+    lots = list(itertools.combinations(range(many), size))
+    lots = chance.sample(lots, min(len(lots), most))
+    return [(lot, chance.randint(-worths, worths)) for lot in lots]
+
+
+def wrong_machines():
+    """For a ground of four things, each with the number of its first wrong part."""
+    good = (3, [0, 1], [(0, 1, 2, 5), (2, 3, 0, 0)], [0, 2])
+    told = [(thing, None) for thing in things_of_other_kinds() + [[], list(good), good[:3], good + (0,), (0,) * 5]]
+    told += [((states,) + good[1:], 0) for states in [0, 13, -1, None, True, "3", [3], 2.0]]
+    told += [((0, None, None, None), 0), ((None,) * 4, 0)]
+    told += [((3, begins) + good[2:], 1) for begins in [None, (0, 1), [1, 0], [0, 0], [3], [-1], [True], ["a"], 0]]
+    told += [((3, [5], None, None), 1)]
+    told += [((3, [0], steps, [0]), 2)
+             for steps in [None, (), 0, [None], [(0, 1, 2)], [(0, 1, 2, True)], [(0, 4, 2, 1)], [(3, 1, 2, 1)],
+                           [(0, 1, 3, 1)], [[0, 1, 2, 5]], [(0, 1, 2, 5), (0, 1, 2, 6)], [(False, 1, 2, 5)]]]
+    told += [((3, [0], [None], None), 2)]
+    told += [(good[:3] + (ends,), 3) for ends in [None, (0, 1), [1, 0], [2, 2], [3], [-1], [False], ["a"], 0]]
+    return told
+
+
+def wrong_lengths():
+    return no_whole_numbers() + [0, 8, -1, 9, 10 ** 40, -(10 ** 40)]
+
+
+def some_machine(chance, many, states, count):
+    """A machine with some of all steps that can be, worths of both signs."""
+    steps = list(itertools.product(range(states), range(many), range(states)))
+    steps = [step + (chance.randint(-5, 5),) for step in chance.sample(steps, min(len(steps), count))]
+    begins = [state for state in range(states) if chance.random() < 0.6]
+    ends = [state for state in range(states) if chance.random() < 0.6]
+    return (states, begins, steps, ends)
+
+
+def growth_worth_by_hand(machine, growth):
+    """By going through all rows of as many steps: only of small machines."""
+    states, begins, steps, ends = machine
+    if len({thing for thing, state in growth}) < len(growth):
+        return None
+    ways = [[step for step in steps if step[1:3] == one] for one in growth]
+    worths = [sum(step[3] for step in row) for row in itertools.product(*ways)
+              if row[0][0] in begins and row[-1][2] in ends
+              and all(one[2] == other[0] for one, other in zip(row, row[1:]))]
+    return max(worths, default=None)

@@ -1,7 +1,7 @@
 import unittest
 
 from fewstand.errors import NoNumber
-from fewstand.numbers import contrary, is_prime, is_whole, prime_from
+from fewstand.numbers import contrary, is_prime, is_whole, is_within, prime_from
 from tests.kinds import no_whole_numbers
 
 
@@ -27,6 +27,13 @@ class WholeNumbers(unittest.TestCase):
         for thing in no_whole_numbers():
             with self.subTest(repr(thing)):
                 self.assertIs(is_whole(thing), False)
+
+    def test_within_bounds(self):
+        self.assertEqual([number for number in range(-3, 9) if is_within(number, 1, 4)], [1, 2, 3, 4])
+        self.assertIs(is_within(0, 0, -1), False)
+        for thing in no_whole_numbers():
+            with self.subTest(repr(thing)):
+                self.assertIs(is_within(thing, -5, 5), False)
 
 
 class Primes(unittest.TestCase):

@@ -5,20 +5,7 @@ import unittest
 
 from fewstand.errors import NoFamily, TooMany
 from fewstand.standing import stands
-from tests.kinds import no_whole_numbers
-
-
-def best_of(family, strangers):
-    worths = [worth for lot, worth in family if not set(lot) & set(strangers)]
-    return max(worths) if worths else None
-
-
-def stands_by_hand(many, strangers, family, few):
-    for count in range(strangers + 1):
-        for some in itertools.combinations(range(many), count):
-            if best_of(few, some) != best_of(family, some):
-                return False
-    return True
+from tests.kinds import no_whole_numbers, stands_by_hand
 
 
 class Standing(unittest.TestCase):

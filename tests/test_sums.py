@@ -4,7 +4,7 @@ import random
 import unittest
 
 from fewstand.numbers import is_whole
-from fewstand.sums import free_ones, shares
+from fewstand.sums import free_ones, leanings, shares
 from fewstand.tables import prime_for, row_of
 
 
@@ -133,6 +133,23 @@ class Shares(unittest.TestCase):
         rows[0][0] = 4
         row.clear()
         self.assertEqual(again, [3, 2])
+
+
+class Leanings(unittest.TestCase):
+    def test_against_free_ones_and_shares(self):
+        chance = random.Random(6)
+        for turn in range(200):
+            prime, width = chance.choice([2, 3, 5, 31]), chance.randint(1, 4)
+            rows = [[chance.randrange(prime) for place in range(width)] for row in range(chance.randint(0, 9))]
+            free = free_ones(prime, rows)
+            good = [None if at in free else shares(prime, [rows[ahead] for ahead in free if ahead < at], row)
+                    for at, row in enumerate(rows)]
+            with self.subTest(prime=prime, rows=rows):
+                self.assertEqual(leanings(prime, rows), good)
+
+    def test_noughts(self):
+        self.assertEqual(leanings(5, []), [])
+        self.assertEqual(leanings(5, [[0, 0], [0, 2], [0, 0], [0, 1]]), [[], None, [0], [3]])
 
 
 if __name__ == "__main__":
