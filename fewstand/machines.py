@@ -1,4 +1,4 @@
-"""Machines, and what growths are worth that they take."""
+"""Machines, what growths are worth that they take, and what lots grow to by their steps."""
 
 from fewstand.errors import NoMachine, NoSize
 from fewstand.lots import is_lot
@@ -83,3 +83,22 @@ def is_row_of_unlike_things(size, thing):
             return False
         seen[one[0]] = True
     return True
+
+
+def first_families(machine):
+    """Of each state the family that growths begin with: the lot without things at the begins."""
+    states, begins, steps, ends = machine
+    return [[((), 0)] if state in begins else [] for state in range(states)]
+
+
+def grown_families(machine, fews):
+    """Of each state the family that the fews, one of each state, grow to by one step more."""
+    states, begins, steps, ends = machine
+    grown = [{} for state in range(states)]
+    for start, thing, end, gain in steps:
+        for lot, worth in fews[start]:
+            if thing not in lot:
+                more = tuple(sorted(lot + (thing,)))
+                # The same lot may be come to by several steps: the greatest worth counts.
+                grown[end][more] = max(worth + gain, grown[end].get(more, worth + gain))
+    return [sorted(family.items()) for family in grown]

@@ -2,6 +2,8 @@
 
 import itertools
 
+from fewstand.sums import shares
+
 
 def no_whole_numbers():
     return [True, False, None, "", "1", "abc", b"", b"\x02", [], [2], (), (2,), {}, {2: 2},
@@ -69,6 +71,74 @@ def stands_by_hand(many, strangers, family, few):
                for count in range(strangers + 1) for some in itertools.combinations(range(many), count))
 
 
+def added(prime, many, size, strangers, parts):
+    rows = [(row_by_hand(many, size, strangers, lot), share) for lot, share in parts]
+    return [sum(row[place] * share for row, share in rows) % prime
+            for place in range(len(row_by_hand(many, size, strangers, tuple(range(size)))))]
+
+
+def is_paper_by_hand(many, size, strangers, family, paper):
+    """Of what has the kinds of a paper."""
+    few, sums = paper
+    prime = least_prime(many + strangers)
+    if len(set(few)) != len(few) or not set(few) <= set(family):
+        return False
+    worths = dict(family)
+    lots = [lot for lot, worth in few]
+    if [lot for lot, parts in sums] != sorted(lot for lot in worths if lot not in lots):
+        return False
+    for lot, parts in sums:
+        used = [part for part, share in parts]
+        if used != sorted(set(used)) or not set(used) <= set(lots) or any(worths[part] < worths[lot] for part in used):
+            return False
+        if not all(1 <= share < prime for part, share in parts):
+            return False
+        if added(prime, many, size, strangers, parts) != row_by_hand(many, size, strangers, lot):
+            return False
+    return True
+
+
+def other_paper(chance, many, size, strangers, family):
+    """A paper that is not the told one: another order of those of one worth, and some lots more in the few."""
+    prime = least_prime(many + strangers)
+    few, free, sums = [], [], []
+    for lot, worth in sorted(chance.sample(family, len(family)), key=lambda one: -one[1]):
+        row = row_by_hand(many, size, strangers, lot)
+        told = shares(prime, [one for part, one in free], row)
+        if told is None:
+            free.append((lot, row))
+        if told is None or chance.random() < 0.1:
+            few.append((lot, worth))
+        else:
+            parts = [(part, share) for (part, one), share in zip(free, told) if share]
+            sums.append((lot, sorted(parts)))
+    return (chance.sample(few, len(few)), sorted(sums))
+
+
+def changed(paper, at, thing):
+    """The paper with another thing at a place within it, which is told by a tuple of numbers."""
+    if not at:
+        return thing
+    rows = list(paper)
+    rows[at[0]] = changed(rows[at[0]], at[1:], thing)
+    return type(paper)(rows)
+
+
+def places(paper):
+    """All places within what is told, the whole of it first."""
+    told = [()]
+    if isinstance(paper, (list, tuple)):
+        for at, one in enumerate(paper):
+            told += [(at,) + more for more in places(one)]
+    return told
+
+
+def taken(paper, at):
+    for number in at:
+        paper = paper[number]
+    return paper
+
+
 def some_family(chance, many, size, most, worths):
     """A family of at most so many lots, in any order, worths from -worths to worths."""
     lots = list(itertools.combinations(range(many), size))
@@ -115,3 +185,31 @@ def growth_worth_by_hand(machine, growth):
               if row[0][0] in begins and row[-1][2] in ends
               and all(one[2] == other[0] for one, other in zip(row, row[1:]))]
     return max(worths, default=None)
+
+
+def growths_by_hand(machine, size):
+    """All growths of that size, with their worths, by going through all rows of steps."""
+    states, begins, steps, ends = machine
+    rows = [((), begin, 0) for begin in begins]
+    for turn in range(size):
+        rows = [(row + ((thing, end),), end, worth + gain) for row, state, worth in rows
+                for start, thing, end, gain in steps if start == state and thing not in [one for one, to in row]]
+    told = {}
+    for row, state, worth in rows:
+        if state in ends:
+            told[row] = max(worth, told.get(row, worth))
+    return told
+
+
+def best_by_hand(machine, size):
+    return max(growths_by_hand(machine, size).values(), default=None)
+
+
+def grown_by_hand(machine, fews):
+    """The grown families, one for each state, by going through each lot with each step."""
+    told = []
+    for state in range(machine[0]):
+        grown = [(tuple(sorted(lot + (thing,))), worth + gain) for start, thing, end, gain in machine[2]
+                 for lot, worth in fews[start] if end == state and thing not in lot]
+        told.append([(lot, max(worth for one, worth in grown if one == lot)) for lot in {lot for lot, worth in grown}])
+    return told

@@ -8,59 +8,8 @@ from fewstand.few import few_of
 from fewstand.numbers import is_whole
 from fewstand.papers import is_paper, paper_of
 from fewstand.standing import stands
-from tests.kinds import (least_prime, no_whole_numbers, rank, row_by_hand, some_family, stands_by_hand,
-                         things_of_other_kinds, wrong_sizes)
-
-
-def added(prime, many, size, strangers, parts):
-    rows = [(row_by_hand(many, size, strangers, lot), share) for lot, share in parts]
-    return [sum(row[place] * share for row, share in rows) % prime
-            for place in range(len(row_by_hand(many, size, strangers, tuple(range(size)))))]
-
-
-def is_paper_by_hand(many, size, strangers, family, paper):
-    """Of what has the kinds of a paper."""
-    few, sums = paper
-    prime = least_prime(many + strangers)
-    if len(set(few)) != len(few) or not set(few) <= set(family):
-        return False
-    worths = dict(family)
-    lots = [lot for lot, worth in few]
-    if [lot for lot, parts in sums] != sorted(lot for lot in worths if lot not in lots):
-        return False
-    for lot, parts in sums:
-        used = [part for part, share in parts]
-        if used != sorted(set(used)) or not set(used) <= set(lots) or any(worths[part] < worths[lot] for part in used):
-            return False
-        if not all(1 <= share < prime for part, share in parts):
-            return False
-        if added(prime, many, size, strangers, parts) != row_by_hand(many, size, strangers, lot):
-            return False
-    return True
-
-
-def changed(paper, at, thing):
-    """The paper with another thing at a place within it, which is told by a row of numbers."""
-    if not at:
-        return thing
-    rows = list(paper)
-    rows[at[0]] = changed(rows[at[0]], at[1:], thing)
-    return type(paper)(rows)
-
-
-def places(paper):
-    """All places within what is told, the whole of it first."""
-    told = [()]
-    if isinstance(paper, (list, tuple)):
-        for at, one in enumerate(paper):
-            told += [(at,) + more for more in places(one)]
-    return told
-
-
-def taken(paper, at):
-    for number in at:
-        paper = paper[number]
-    return paper
+from tests.kinds import (added, changed, is_paper_by_hand, least_prime, no_whole_numbers, other_paper, places,
+                         row_by_hand, some_family, stands_by_hand, taken, things_of_other_kinds, wrong_sizes)
 
 
 # Over the prime 5, with rows [1, t]: 2 is 4 times 0 and 2 times 1, 3 is 3 times 0 and 3 times 1.
@@ -273,23 +222,9 @@ class IsPaper(unittest.TestCase):
         for turn in range(60):
             many, size, strangers = chance.randint(5, 8), chance.randint(1, 3), chance.randint(1, 3)
             family = some_family(chance, many, size, 16, 2)
-            # Among those of one worth any order would do, and some lots may be kept that lean on others.
-            order = sorted(chance.sample(family, len(family)), key=lambda one: -one[1])
-            prime = least_prime(many + strangers)
-            few, rows, sums = [], [], []
-            for lot, worth in order:
-                row = row_by_hand(many, size, strangers, lot)
-                if rank(prime, rows + [row]) > len(rows) or chance.random() < 0.1:
-                    few.append((lot, worth))
-                    rows = rows + [row] if rank(prime, rows + [row]) > len(rows) else rows
-            lots = [lot for lot, worth in few]
-            free = few_of(many, size, strangers, [(lot, -at) for at, lot in enumerate(lots)])
-            for lot, worth in sorted(family):
-                if lot not in lots:
-                    # The lot behind all the free ones: its sum is told with these alone.
-                    told = paper_of(many, size, strangers, free + [(lot, -500)])
-                    sums.append((lot, told[1][0][1]))
+            few, sums = other_paper(chance, many, size, strangers, family)
             with self.subTest(family=family, few=few):
+                self.assertTrue(is_paper_by_hand(many, size, strangers, family, (few, sums)))
                 self.assertIs(is_paper(many, size, strangers, family, (few, sums)), True)
                 self.assertIs(stands(many, size, strangers, family, few), True)
                 seen += few != few_of(many, size, strangers, family)
