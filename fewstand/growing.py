@@ -9,7 +9,15 @@ def best_growth(many, machine, size):
     """A tuple of the greatest worth of a growth of that size and of such a growth, None where there is none."""
     look_at_machine(many, machine)
     look_at_length(size)
-    layers = told_fews(many, machine, size)
+    return found_growth(many, machine, size, {})
+
+
+def found_growth(many, machine, size, rows):
+    """The same, of a machine that was looked at, or has more states and steps than those handed in.
+
+    Rows are the rows reckoned ahead, by their lots, for the same ground and size of growths.
+    """
+    layers = told_fews(many, machine, size, rows)
     ends = machine[3]
     found = [(worth, lot, state) for state in ends for lot, worth in layers[size][state]]
     if len(found) == 0:
@@ -18,13 +26,13 @@ def best_growth(many, machine, size):
     return (worth, traced(machine, layers, lot, worth, state))
 
 
-def told_fews(many, machine, size):
+def told_fews(many, machine, size, rows):
     """Of each layer, from 0 on, the told few at each state."""
     families = first_families(machine)
-    layers = [[free_part(many, 0, size, family) for family in families]]
+    layers = [[free_part(many, 0, size, family, rows) for family in families]]
     for count in range(1, size + 1):
         families = grown_families(machine, layers[-1])
-        layers.append([free_part(many, count, size - count, family) for family in families])
+        layers.append([free_part(many, count, size - count, family, rows) for family in families])
     return layers
 
 

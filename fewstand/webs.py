@@ -36,3 +36,21 @@ def is_arc(many, thing):
         return False
     start, end, worth = thing
     return is_within(start, 0, many - 1) and is_within(end, 0, many - 1) and start != end and is_whole(worth)
+
+
+def are_places(many, thing):
+    """Whether thing is a list of unlike places."""
+    if not isinstance(thing, list) or not all([is_within(place, 0, many - 1) for place in thing]):
+        return False
+    return len(set(thing)) == len(thing)
+
+
+def worth_of_arcs(web, steps):
+    """What the arcs of these steps, tuples (from, to), are worth together, None where one isn't there."""
+    worths = {(start, end): worth for start, end, worth in web[1]}
+    total = 0
+    for step in steps:
+        if step not in worths:
+            return None
+        total += worths[step]
+    return total

@@ -213,3 +213,81 @@ def grown_by_hand(machine, fews):
                  for lot, worth in fews[start] if end == state and thing not in lot]
         told.append([(lot, max(worth for one, worth in grown if one == lot)) for lot in {lot for lot, worth in grown}])
     return told
+
+
+def wrong_webs():
+    """What is no web, of every kind."""
+    arcs = [(0, 1, 5), (1, 2, -4)]
+    told = things_of_other_kinds() + [[], [3, arcs], (3,), (3, arcs, 0), (arcs, 3), (None, None), (0, [])]
+    told += [(many, []) for many in no_whole_numbers() + [0, 13, -1, 10 ** 40]]
+    told += [(3, thing) for thing in things_of_other_kinds() + [tuple(arcs), {(0, 1): 5}]]
+    told += [(3, arcs + [arc]) for arc in [None, (0, 2), [0, 2, 1], (0, 2, 1, 1), (2, 2, 1), (0, 3, 1), (-1, 0, 1),
+                                           (0, 1, 5), (0, 1, 6), (True, 2, 1), (2, False, 1), (0, 2, True),
+                                           (0, 2, None), (0, 2, 1.0), ("0", 2, 1)]]
+    return told + [(12, [(start, end, 1) for start, end in itertools.permutations(range(12), 2)][:61])]
+
+
+def some_web(chance, many, count, worths):
+    """A web of many places with at most so many arcs, worths from -worths to worths."""
+    pairs = list(itertools.permutations(range(many), 2))
+    pairs = chance.sample(pairs, min(len(pairs), count))
+    return (many, [(start, end, chance.randint(-worths, worths)) for start, end in pairs])
+
+
+def full_web():
+    """A web of twelve places with sixty arcs: from each place to the five behind it, around."""
+    return (12, [(place, (place + more) % 12, (place * 7 + more * more * 5) % 23 - 9)
+                 for place in range(12) for more in range(1, 6)])
+
+
+def ways_by_hand(web, size):
+    """All ways of so many places, with their worths, one place behind the other."""
+    many, arcs = web
+    rows = [((place,), 0) for place in range(many)]
+    for turn in range(size - 1):
+        rows = [(row + (end,), worth + gain) for row, worth in rows
+                for start, end, gain in arcs if start == row[-1] and end not in row]
+    return dict(rows)
+
+
+def rings_by_hand(web, size):
+    """All rings of so many places, with their worths."""
+    back = {(start, end): worth for start, end, worth in web[1]}
+    return {row: worth + back[(row[-1], row[0])] for row, worth in ways_by_hand(web, size).items()
+            if row[0] == min(row) and (row[-1], row[0]) in back}
+
+
+def trees_by_hand(web, plan):
+    """All trees of the plan, with their worths, part by part."""
+    many, arcs = web
+    rows = [((place,), 0) for place in range(many)]
+    for above in plan[1:]:
+        rows = [(row + (end,), worth + gain) for row, worth in rows
+                for start, end, gain in arcs if start == row[above] and end not in row]
+    return dict(rows)
+
+
+def moved_web(web, names):
+    """The web with each place p called names[p]."""
+    return (web[0], [(names[start], names[end], worth) for start, end, worth in web[1]])
+
+
+def side_by_side(one, other):
+    """Two webs in one, the places of the other behind those of the first."""
+    many = one[0]
+    return (many + other[0], one[1] + [(start + many, end + many, worth) for start, end, worth in other[1]])
+
+
+def packings_by_hand(family, count):
+    """All packings of so many lots, with their worths."""
+    told = {}
+    for some in itertools.combinations(sorted(family), count):
+        things = [thing for lot, worth in some for thing in lot]
+        if len(set(things)) == len(things):
+            told[tuple(lot for lot, worth in some)] = sum(worth for lot, worth in some)
+    return told
+
+
+def greater(one, other):
+    """The greater of two worths, each of which may be None."""
+    return max([worth for worth in [one, other] if worth is not None], default=None)
