@@ -54,7 +54,7 @@ def both(one, other):
     worths = {lot: worth for lot, worth in one}
     for lot, worth in other:
         worths[lot] = max(worth, worths.get(lot, worth))
-    return sorted(worths.items())
+    return sorted(list(worths.items()))
 
 
 def renamed(many, family, names):

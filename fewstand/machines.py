@@ -101,4 +101,4 @@ def grown_families(machine, fews):
                 more = tuple(sorted(lot + (thing,)))
                 # The same lot may be come to by several steps: the greatest worth counts.
                 grown[end][more] = max(worth + gain, grown[end].get(more, worth + gain))
-    return [sorted(family.items()) for family in grown]
+    return [sorted(list(family.items())) for family in grown]

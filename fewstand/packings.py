@@ -39,8 +39,8 @@ def best_packing(many, size, family, count):
     look_at_family(many, size, family)
     if count == 0:
         return (0, [])
-    # Lots without things miss one another, but there is only one of them.
-    if size == 0 and count > len(family):
+    # The lot without things misses itself, but is there only once.
+    if count > len(family):
         return None
     found = best_made(packed(many, size, family, count))
     return None if found is None else (found[0], sorted(found[1]))

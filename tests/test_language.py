@@ -1,6 +1,7 @@
 """A few of the rules of the language that a program can see at once."""
 
 import ast
+import builtins
 import os
 import re
 import unittest
@@ -48,6 +49,30 @@ class Rules(unittest.TestCase):
                 if isinstance(node, ast.ImportFrom):
                     self.assertEqual(node.level, 0, name)
                     self.assertTrue(node.module.startswith("fewstand."), name)
+
+    def test_names_of_methods_and_attributes(self):
+        methods, attributes = set(), set()
+        for name, text in files():
+            for node in ast.walk(ast.parse(text)):
+                if isinstance(node, ast.ClassDef):
+                    methods |= {part.name for part in node.body if isinstance(part, ast.FunctionDef)}
+                if isinstance(node, ast.Attribute) and isinstance(node.ctx, ast.Store):
+                    attributes.add(node.attr)
+        self.assertIn("few", methods)
+        self.assertIn("at", attributes)
+        self.assertEqual(methods & attributes, set())
+
+    def test_names_are_bound_once_and_not_hidden(self):
+        for name, text in files():
+            tree = ast.parse(text)
+            imported = [alias.name for node in tree.body if isinstance(node, ast.ImportFrom) for alias in node.names]
+            defined = [node.name for node in tree.body if isinstance(node, (ast.FunctionDef, ast.ClassDef))]
+            self.assertEqual(len(set(imported + defined)), len(imported + defined), name)
+            used = {node.id for node in ast.walk(tree) if isinstance(node, ast.Name) and isinstance(node.ctx, ast.Load)}
+            self.assertLessEqual(set(imported), used, name)
+            taken = {node.id for node in ast.walk(tree) if isinstance(node, ast.Name) and isinstance(node.ctx, ast.Store)}
+            taken |= {node.arg for node in ast.walk(tree) if isinstance(node, ast.arg)}
+            self.assertEqual(taken & (set(imported) | set(dir(builtins))), set(), name)
 
     def test_no_barred_syntax(self):
         barred = (ast.Div, ast.Global, ast.AsyncFunctionDef, ast.GeneratorExp)
